@@ -1,0 +1,1 @@
+"""Dotwriter: texts in raised dots, and whether they can be misread."""
