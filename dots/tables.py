@@ -7,6 +7,7 @@ SMALL_LETTERS = "abcdefghijklmnopqrstuvwxyz"
 FIGURES = "0123456789"
 ALL_PLACES = "wbme"
 MOST_FORMS = 24
+MOST_MARK_CELLS = 2
 # NoMark counts the figures as a fifth mark, behind the marks 0 to 3.
 NUMBER_OF_FIGURES = 4
 
@@ -60,7 +61,7 @@ def check_twice(forms):
 def check_marks(marks, figures):
     """Refuse marks and figures that are none, or that don't go together."""
     for number, mark in enumerate(marks):
-        if not are_raised(mark, 0, 2):
+        if not are_raised(mark, 0, MOST_MARK_CELLS):
             raise NoMark(number)
     if not are_raised(figures, 0, len(FIGURES)):
         raise NoMark(NUMBER_OF_FIGURES)

@@ -31,6 +31,10 @@ WORDS_OUT = re.compile(
 NAMES_OUT = """register mro elements open input version_info with_traceback add_note attrgetter breakpoint
     builtins compile copyright credits delattr dir eval exec exit gc getattr globals hasattr help id importlib
     license locals methodcaller os quit setattr super vars sys chr print format format_map""".split()
+WALKED_AT_ONCE = ["zip", "enumerate", "reversed", "range", "items", "keys", "values"]
+WALKERS = ["list", "tuple", "dict", "sorted", "sum", "any", "all", "enumerate", "zip", "min", "max", "join"]
+KEYWORDS = {"sorted": ["key", "reverse"], "min": ["key", "default"], "max": ["key", "default"], "sum": ["start"],
+            "enumerate": ["start"], "zip": ["strict"]}
 OWN_UNDERSCORED = ["__init__", "__eq__", "__repr__", "__str__", "__len__", "__all__", "__version__"]
 
 
@@ -59,6 +63,18 @@ def bound_names(tree):
         elif isinstance(node, ast.ExceptHandler) and node.name:
             names.append(node.name)
     return names
+
+
+def called(node):
+    """The name of the function or method that a node calls, or None."""
+    if not isinstance(node, ast.Call):
+        return None
+    return node.func.id if isinstance(node.func, ast.Name) else node.func.attr
+
+
+def parents(tree):
+    """Each node with the one in which it stands."""
+    return [(child, node) for node in ast.walk(tree) for child in ast.iter_child_nodes(node)]
 
 
 class FilesTest(unittest.TestCase):
@@ -185,6 +201,43 @@ class CodeTest(unittest.TestCase):
             for node in ast.walk(tree):
                 if isinstance(node, ast.Call) and isinstance(node.func, ast.Attribute):
                     self.assertIn(node.func.attr, METHODS + own, (path, node.lineno))
+
+    def test_walked_at_once(self):
+        for path, tree in trees():
+            for node, parent in parents(tree):
+                if called(node) in WALKED_AT_ONCE:
+                    where = (path, node.lineno)
+                    if called(parent) is not None:
+                        self.assertIn(called(parent), WALKERS, where)
+                        self.assertIs(parent.args[0], node, where)
+                    else:
+                        self.assertIsInstance(parent, (ast.For, ast.comprehension), where)
+                        self.assertIs(parent.iter, node, where)
+
+    def test_sets(self):
+        for path, tree in trees():
+            for node, parent in parents(tree):
+                if called(node) in ("set", "frozenset"):
+                    alone = called(parent) in ("sorted", "len") and parent.keywords == []
+                    self.assertTrue(alone or isinstance(parent, (ast.Compare, ast.BinOp)), (path, node.lineno))
+
+    def test_keywords(self):
+        for path, tree in trees():
+            own = bound_names(tree)
+            for node in ast.walk(tree):
+                if called(node) is not None and called(node) not in own:
+                    for keyword in node.keywords:
+                        self.assertIn(keyword.arg, KEYWORDS.get(called(node), []), (path, node.lineno))
+
+    def test_no_two_files_draw_from_one_another(self):
+        drawn = {}
+        for path, tree in trees():
+            drawn[f"dots.{path.stem}"] = {node.module for node in tree.body if isinstance(node, ast.ImportFrom)}
+        while drawn:
+            free = [name for name, others in drawn.items() if not others & set(drawn)]
+            self.assertNotEqual(free, [], drawn)
+            for name in free:
+                drawn.pop(name)
 
 
 if __name__ == "__main__":
