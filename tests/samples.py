@@ -1,4 +1,4 @@
-"""Tables that the tests share, and the document's words on edges and writings told over, plainly and slowly."""
+"""Tables that the tests share, and the document's words on edges, writings and walks told over, plainly and slowly."""
 
 import random
 
@@ -110,6 +110,38 @@ def beginnings(table, most):
                     seen.add(walk)
                     walks.append(walk)
     return found
+
+
+def steps_again(edges, spot, cell):
+    """The set of the steps from a spot by a cell, as points 17 and 18 tell them."""
+    state, rest, text = spot
+    if rest:
+        ways = [(text, rest, state)] if rest[0] == cell else []
+    else:
+        ways = [(letters, cells, other) for here, letters, cells, other in edges if here == state and cells[0] == cell]
+    inside = {((other, cells[1:], letters), "") for letters, cells, other in ways if len(cells) > 1}
+    return inside | {((other, (), ""), letters) for letters, cells, other in ways if len(cells) == 1}
+
+
+def spots_of_rows(table):
+    """All sets of spots such that some row leads to just these from the first spot."""
+    edges = edges_again(table)
+    signs = {cell for edge in edges for cell in edge[2]}
+    found = {frozenset([("out", (), "")])}
+    waiting = list(found)
+    while waiting:
+        spots = waiting.pop()
+        for cell in signs:
+            behind = frozenset(step[0] for spot in spots for step in steps_again(edges, spot, cell))
+            if behind and behind not in found:
+                found.add(behind)
+                waiting.append(behind)
+    return found
+
+
+def twins_again(table):
+    """The set of all twins of a table: by point 20 any two of the spots to which one row leads."""
+    return {(one, other) for spots in spots_of_rows(table) for one in spots for other in spots}
 
 
 def some_cells(chance, least, most, top):

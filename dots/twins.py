@@ -1,0 +1,56 @@
+"""Twins: two spots to which walks by the same cells lead, and what the one walk has told beyond the other."""
+
+from dots.edges import edges_by_state
+from dots.errors import TooMany
+from dots.spots import FIRST, steps_by_cell
+
+
+def count_alike(text, other):
+    """How many signs the longest beginning has that both texts have."""
+    count = 0
+    for sign, other_sign in zip(text, other):
+        if sign != other_sign:
+            return count
+        count = count + 1
+    return count
+
+
+def told_on(ahead, behind, text, other):
+    """What is told ahead and behind when text is told behind the first of these and other behind the second."""
+    one = ahead + text
+    two = behind + other
+    count = count_alike(one, two)
+    return (one[count:], two[count:])
+
+
+def twins_behind(steps, others):
+    """The twins behind a twin, of the steps by cell from its one and from its other; some perhaps several times."""
+    found = []
+    for cell in steps:
+        for step in steps[cell]:
+            found.extend([(step[0], other[0]) for other in others.get(cell, [])])
+    return found
+
+
+def known_steps(known, edges, spot):
+    """The steps by cell from a spot, reckoned once for each spot."""
+    if spot not in known:
+        known[spot] = steps_by_cell(edges, spot)
+    return known[spot]
+
+
+def twins_of(table, most):
+    """All twins of a table, each once, or a refusal where there are more than most."""
+    edges = edges_by_state(table)
+    known = {}
+    met = {(FIRST, FIRST): True}
+    waiting = [(FIRST, FIRST)]
+    while waiting != []:
+        twin = waiting.pop()
+        for behind in twins_behind(known_steps(known, edges, twin[0]), known_steps(known, edges, twin[1])):
+            if behind not in met:
+                met[behind] = True
+                waiting.append(behind)
+        if len(met) > most:
+            raise TooMany(most)
+    return list(met)
