@@ -98,6 +98,16 @@ def signs_of(table):
     return "".join(sorted(" " + figures + great + letters))
 
 
+def cells_in(table):
+    """All cells that stand in a table, some perhaps several times."""
+    cells = list(table[2])
+    for mark in table[1]:
+        cells.extend(mark)
+    for form in table[0]:
+        cells.extend(form[1])
+    return cells
+
+
 def is_text(table, text):
     """Whether a text has signs of the table alone."""
     signs = signs_of(table)

@@ -23,13 +23,16 @@ def told_on(ahead, behind, text, other):
     return (one[count:], two[count:])
 
 
-def twins_behind(steps, others):
-    """The twins behind a twin, of the steps by cell from its one and from its other; some perhaps several times."""
-    found = []
+def ways_among(steps, others):
+    """The ways on from a twin, of the steps by cell from its one and from its other.
+
+    A way is a tuple (cell, text, other, twin): the cell, what the two steps by it tell, the twin behind them.
+    """
+    ways = []
     for cell in steps:
-        for step in steps[cell]:
-            found.extend([(step[0], other[0]) for other in others.get(cell, [])])
-    return found
+        for spot, text in steps[cell]:
+            ways.extend([(cell, text, other, (spot, there)) for there, other in others.get(cell, [])])
+    return ways
 
 
 def known_steps(known, edges, spot):
@@ -37,6 +40,11 @@ def known_steps(known, edges, spot):
     if spot not in known:
         known[spot] = steps_by_cell(edges, spot)
     return known[spot]
+
+
+def ways_from(known, edges, twin):
+    """The ways on from a twin, each once."""
+    return ways_among(known_steps(known, edges, twin[0]), known_steps(known, edges, twin[1]))
 
 
 def twins_of(table, most):
@@ -47,10 +55,10 @@ def twins_of(table, most):
     waiting = [(FIRST, FIRST)]
     while waiting != []:
         twin = waiting.pop()
-        for behind in twins_behind(known_steps(known, edges, twin[0]), known_steps(known, edges, twin[1])):
-            if behind not in met:
-                met[behind] = True
-                waiting.append(behind)
+        for way in ways_from(known, edges, twin):
+            if way[3] not in met:
+                met[way[3]] = True
+                waiting.append(way[3])
         if len(met) > most:
             raise TooMany(most)
     return list(met)

@@ -1,5 +1,6 @@
 """Tables that the tests share, and the document's words on edges, writings and walks told over, plainly and slowly."""
 
+import os.path
 import random
 
 from dots.tables import made_table
@@ -22,6 +23,10 @@ ALIKE = made_table(
     [("a", (1,), "wbme"), ("a", (1, 1), "wbme"), ("b", (1,), "wbme"), ("b", (1, 2, 1, 1), "bm"), ("ab", (1,), "w")],
     ((1,), (1, 1), (1,), (1, 1)), (1, 2))
 TABLES = [ONE, PLAIN, GREAT, ALL_GREAT, FIGURES, FULL, ALIKE]
+# Sure tables of just 2,000 and of 2,001 twins.
+NINE = tuple((letter, (1, 1, number + 1), "wbme") for number, letter in enumerate("abcdefghi"))
+LARGE = made_table(NINE, ((40, 41), (), (48,), (50,)), (1, 2, 3, 4, 5, 6, 7))
+LARGER = made_table(NINE, ((40, 41), (), (48,), (50, 51)), (1, 2, 3, 4, 5, 6, 7))
 
 
 def great_first(letters):
@@ -144,6 +149,59 @@ def twins_again(table):
     return {(one, other) for spots in spots_of_rows(table) for one in spots for other in spots}
 
 
+def ways_again(edges, twin):
+    """All (cell, told by the one, told by the other, twin behind) from a twin on."""
+    ways = []
+    for cell in {edge[2][0] for edge in edges} | {spot[1][0] for spot in twin if spot[1]}:
+        for one, text in steps_again(edges, twin[0], cell):
+            for other, other_text in steps_again(edges, twin[1], cell):
+                ways.append((cell, text, other_text, (one, other)))
+    return ways
+
+
+def are_ends(twin):
+    return all(rest == () and state in ENDS for state, rest, text in twin)
+
+
+def lives_again(table):
+    """The set of the live twins of a table, and the set of the dead ones, as point 20 tells them."""
+    edges = edges_again(table)
+    twins = twins_again(table)
+    behind = {twin: {way[3] for way in ways_again(edges, twin)} for twin in twins}
+    lives = {twin for twin in twins if are_ends(twin)}
+    count = 0
+    while count < len(lives):
+        count = len(lives)
+        lives |= {twin for twin in twins if behind[twin] & lives}
+    return lives, twins - lives
+
+
+def beyond(one, other):
+    """What two texts have beyond the longest beginning that both have."""
+    count = len(os.path.commonprefix([one, other]))
+    return one[count:], other[count:]
+
+
+def told_again(table):
+    """For each live twin what is told ahead and behind there, as point 21 tells it; None where the table isn't sure."""
+    edges = edges_again(table)
+    lives = lives_again(table)[0]
+    first = (("out", (), ""), ("out", (), ""))
+    told = {first: ("", "")}
+    waiting = [first]
+    while waiting:
+        twin = waiting.pop()
+        for cell, text, other_text, behind in ways_again(edges, twin):
+            if behind in lives:
+                there = beyond(told[twin][0] + text, told[twin][1] + other_text)
+                if all(there) or are_ends(behind) and any(there) or told.get(behind, there) != there:
+                    return None
+                if behind not in told:
+                    told[behind] = there
+                    waiting.append(behind)
+    return told
+
+
 def some_cells(chance, least, most, top):
     return tuple(chance.randint(1, top) for k in range(chance.randint(least, most)))
 
@@ -174,3 +232,57 @@ def some_tables(count, top=63, seed=7):
     """Always the same tables for the same count, top and seed."""
     chance = random.Random(seed)
     return [some_table(chance, top) for k in range(count)]
+
+
+def sure_table(chance):
+    """A table in which forms of several letters are written by the cells of the letters: so it is sure."""
+    alone = {letter: (number + 1,) * chance.randint(1, 2) for number, letter in enumerate("abc")}
+    forms = {(letter, cells): "wbme" for letter, cells in alone.items()}
+    for k in range(chance.randint(1, 5)):
+        letters = "".join(chance.choice("abc") for sign in range(chance.randint(2, 4)))
+        cells = sum((alone[letter] for letter in letters), ())
+        if len(cells) <= 4:
+            forms[(letters, cells)] = some_form(chance, "a", 1)[2]
+    forms = [entry + (places,) for entry, places in forms.items()]
+    great = chance.choice([(), (30,), (30, 31)])
+    whole = chance.choice([(), (32,), (32, 33)]) if great else ()
+    figures = chance.choice([(), (1,), (1, 2)])
+    number = (40,) if figures else ()
+    return made_table(forms, [great, whole, number, number], figures)
+
+
+def sure_tables(count, seed=7):
+    """Always the same tables for the same count and seed."""
+    chance = random.Random(seed)
+    return [sure_table(chance) for k in range(count)]
+
+
+def some_text(chance, signs, most):
+    return "".join(chance.choice(signs) for k in range(chance.randint(0, most)))
+
+
+def places_to_end(edges, text):
+    """All (place, state) from which the rest of the text can be written to an end."""
+    found = {(len(text), state) for state in ENDS}
+    for place in range(len(text), -1, -1):
+        # Once more for the edge without a text, which stays at its place.
+        for state, letters, cells, other in edges + edges:
+            if text.startswith(letters, place) and (place + len(letters), other) in found:
+                found.add((place, state))
+    return found
+
+
+def some_writing(chance, table, text):
+    """Any writing of a text of the table, drawn edge by edge."""
+    edges = edges_again(table)
+    found = places_to_end(edges, text)
+    row = ()
+    place = 0
+    state = "out"
+    while place < len(text):
+        letters, cells, state = chance.choice([
+            edge[1:] for edge in edges
+            if edge[0] == state and text.startswith(edge[1], place) and (place + len(edge[1]), edge[3]) in found])
+        row += cells
+        place += len(letters)
+    return row

@@ -210,7 +210,8 @@ class BrokenTest(unittest.TestCase):
                                  least_by_forward_walk(row, may_be_hinges(row), width))
 
     def test_refused(self):
-        for row, hinges, width in [((1, 1), [], 1), ((1,) * 81, [], 80), ((1, 1, 1, 1, 0, 1), [1], 2), ((1,) * 1300, [], 7)]:
+        for row, hinges, width in [((1, 1), [], 1), ((1,) * 81, [], 80), ((1, 1, 1, 1, 0, 1), [1], 2),
+                                   ((1,) * 1300, [], 7)]:
             with self.assertRaises(NoLines) as caught:
                 broken(row, hinges, width, MARK)
             self.assertIs(type(caught.exception), NoLines)
