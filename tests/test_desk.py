@@ -170,6 +170,17 @@ class TableTest(DeskCase):
         self.assert_says(desk, "table", "sure 5")
         self.assert_says(desk, "show", "form d wbme 14")
 
+    def test_lines_stay_behind_other_refusals(self):
+        desk = desk_of(PLAIN_LINES)
+        desk.say("form d wbme 14")
+        for kind, line in [(NoSign, "write x"), (NoSign, "count x"), (NoReading, "read 2"), (NoLine, "read x"),
+                           (NoLines, "lines 1 6 ba"), (NoSign, "lines 1 6 x"), (NoLine, "form d wbme 0"),
+                           (NoEntry, "strike d 14"), (NoForm, "put d x 14"), (NoLine, "tables")]:
+            self.refusal_of(kind, desk, line)
+            self.assert_says(desk, "show", " / ".join(PLAIN_LINES))
+        self.assert_says(desk, "table", "sure 5")
+        self.assert_says(desk, "show", "form d wbme 14")
+
     def test_lines_go_behind_an_unsure_table(self):
         desk = desk_of(PLAIN_LINES)
         desk.say("form c wbme 14")

@@ -1,6 +1,7 @@
 """The form of the package's code: the rules of LANGUAGE.md that a walk over the code can see."""
 
 import ast
+import builtins
 import pathlib
 import re
 import unittest
@@ -62,6 +63,17 @@ def bound_names(tree):
             names.extend(alias.asname or alias.name for alias in node.names)
         elif isinstance(node, ast.ExceptHandler) and node.name:
             names.append(node.name)
+    return names
+
+
+def locals_of(tree):
+    """All parameters and locals of a file's functions, with those of its comprehensions and handlers."""
+    names = []
+    for row in ast.walk(tree):
+        if isinstance(row, ast.FunctionDef):
+            inner = bound_names(row)
+            inner.remove(row.name)
+            names.extend(inner)
     return names
 
 
@@ -201,6 +213,39 @@ class CodeTest(unittest.TestCase):
             for node in ast.walk(tree):
                 if isinstance(node, ast.Call) and isinstance(node.func, ast.Attribute):
                     self.assertIn(node.func.attr, METHODS + own, (path, node.lineno))
+
+    def test_locals_are_called_like_nothing_else(self):
+        for path, tree in trees():
+            drawn = [alias.name for node in tree.body if isinstance(node, ast.ImportFrom) for alias in node.names]
+            classes = [node.name for node in tree.body if isinstance(node, ast.ClassDef)]
+            for name in locals_of(tree):
+                self.assertNotIn(name, drawn + classes + dir(builtins), path)
+
+    def test_no_name_is_a_method_and_a_value(self):
+        methods = set()
+        values = set()
+        taken = dir(str) + dir(int) + dir(list) + dir(tuple) + dir(dict) + dir(set) + dir(bytes)
+        for path, tree in trees():
+            for node in ast.walk(tree):
+                if isinstance(node, ast.ClassDef):
+                    names = [row.name for row in node.body if isinstance(row, ast.FunctionDef)]
+                    self.assertEqual(len(names), len(set(names)), path)
+                    methods.update(names)
+                if isinstance(node, ast.Attribute) and isinstance(node.ctx, ast.Store):
+                    self.assertEqual(getattr(node.value, "id", None), "self", (path, node.lineno))
+                    values.add(node.attr)
+        self.assertEqual(methods & values, set())
+        self.assertEqual((methods | values) & set(taken) - {"__init__"}, set())
+
+    def test_errors_are_made_and_taken_by_name(self):
+        own = [node.name for path, tree in trees() if path.stem == "errors" for node in tree.body
+               if isinstance(node, ast.ClassDef)]
+        for path, tree in trees():
+            for node in ast.walk(tree):
+                if isinstance(node, ast.Raise):
+                    self.assertIn(called(node.exc), own, (path, node.lineno))
+                if isinstance(node, ast.ExceptHandler):
+                    self.assertIn(getattr(node.type, "id", None), own, (path, node.lineno))
 
     def test_walked_at_once(self):
         for path, tree in trees():
